@@ -1,0 +1,122 @@
+"""Point 1: any value for any argument, the error of the leftmost wrong one, and nothing that is changed."""
+
+import unittest
+from copy import deepcopy
+
+from tests.support import TRIANGLE, WRONG, ratios
+from wattkeep import dispatch, falls, flows, grids, programs, systems, trees
+from wattkeep.errors import BadGrid, BadInjections, BadName, BadPlan, BadProgram, BadTable, Bridge
+
+TABLE = (ratios(1, 2), ratios(3, 5))
+PROGRAM = (ratios(-1, 2), (ratios(2, 1),), ratios(3))
+INJECT = ratios(3, 0, -3)
+FULL = (TRIANGLE[0], TRIANGLE[1], (("p", "a", 9, 1),), (("n", "b", 5, 50),))
+PLAN = (ratios(5), ratios(0))
+
+# Each function with arguments that are right and, for each, the error that is named with it.
+CALLS = (
+    (systems.rank, (TABLE,), (BadTable,)),
+    (systems.solved, (TABLE, ratios(1, 2)), (BadTable, BadTable)),
+    (systems.inverse, (TABLE,), (BadTable,)),
+    (grids.islands, (TRIANGLE,), (BadGrid,)),
+    (grids.bridges, (TRIANGLE,), (BadGrid,)),
+    (grids.fallen, (TRIANGLE, ("x",)), (BadGrid, BadName)),
+    (grids.rings, (TRIANGLE,), (BadGrid,)),
+    (flows.flows, (TRIANGLE, INJECT), (BadGrid, BadInjections)),
+    (flows.angles, (TRIANGLE, INJECT), (BadGrid, BadInjections)),
+    (flows.losses, (TRIANGLE, INJECT), (BadGrid, BadInjections)),
+    (flows.sent, (TRIANGLE, "a", "b"), (BadGrid, BadName, BadName)),
+    (flows.reactance, (TRIANGLE, "a", "b"), (BadGrid, BadName, BadName)),
+    (flows.shares, (TRIANGLE, "x"), (BadGrid, BadName)),
+    (trees.trees, (TRIANGLE,), (BadGrid,)),
+    (trees.tree_weight, (TRIANGLE,), (BadGrid,)),
+    (trees.part_in_trees, (TRIANGLE, "x"), (BadGrid, BadName)),
+    (trees.reactance_by_trees, (TRIANGLE, "a", "b"), (BadGrid, BadName, BadName)),
+    (trees.sum_over_lines, (TRIANGLE,), (BadGrid,)),
+    (falls.factors, (TRIANGLE, "x"), (BadGrid, BadName)),
+    (falls.behind_fall, (TRIANGLE, INJECT, "x"), (BadGrid, BadInjections, BadName)),
+    (falls.behind_falls, (TRIANGLE, INJECT, ("x",)), (BadGrid, BadInjections, BadName)),
+    (programs.best, (PROGRAM,), (BadProgram,)),
+    (programs.shows_best, (PROGRAM, ("none", ratios(1))), (BadProgram, None)),
+    (dispatch.is_plan, (FULL, PLAN), (BadGrid, None)),
+    (dispatch.flows_of, (FULL, PLAN), (BadGrid, BadPlan)),
+    (dispatch.cost_of, (FULL, PLAN), (BadGrid, BadPlan)),
+    (dispatch.holds, (FULL, PLAN), (BadGrid, BadPlan)),
+    (dispatch.cheapest, (FULL,), (BadGrid,)),
+    (dispatch.shows_cheapest, (FULL, ("none", ())), (BadGrid, None)),
+)
+
+
+def put(args, at, value):
+    return args[:at] + (value,) + args[at + 1:]
+
+
+class Arguments(unittest.TestCase):
+    def raised(self, function, args):
+        try:
+            told = function(*args)
+        except Exception as error:
+            return error.__class__
+        self.assertIn(told, (True, False))
+        return None
+
+    def test_every_wrong_kind_gets_its_error(self):
+        for function, args, errors in CALLS:
+            for at, error in enumerate(errors):
+                for value in WRONG:
+                    told = self.raised(function, put(args, at, value))
+                    self.assertIs(told, error, (function.__name__, at, value))
+
+    def test_the_leftmost_of_two(self):
+        for function, args, errors in CALLS:
+            for first in range(len(args)):
+                for second in range(first + 1, len(args)):
+                    for value in WRONG:
+                        wrong = put(put(args, first, value), second, value)
+                        told = self.raised(function, wrong)
+                        self.assertIs(told, errors[first], (function.__name__, first, second, value))
+
+    def test_errors_that_hang_on_more_arguments_come_last(self):
+        chain = (("a", "b", "c"), (("x", "a", "b", 2, 9),), (), ())
+        for function, args, error in (
+            (falls.factors, (chain, "x"), Bridge), (falls.factors, (chain, "a"), BadName),
+            (falls.behind_fall, (chain, ratios(1, -1, 0), "x"), Bridge),
+            (falls.behind_fall, (chain, ratios(1, -1, 1), "x"), BadInjections),
+            (falls.behind_falls, (chain, ratios(1, -1, 0), ("x", "y")), BadName),
+            (falls.behind_falls, (chain, ratios(1, -1, 0), ("x",)), Bridge),
+            (flows.sent, (chain, "a", "c"), BadInjections), (flows.sent, (chain, "a", "x"), BadName),
+            (flows.reactance, (chain, "c", "b"), BadInjections), (trees.reactance_by_trees, (chain, "a", "c"), BadInjections),
+        ):
+            self.assertIs(self.raised(function, args), error)
+
+    def test_arguments_are_not_changed(self):
+        for function, args, errors in CALLS:
+            lots = [args] + [put(args, at, value) for at in range(len(args)) for value in WRONG]
+            for lot in lots:
+                kept = deepcopy(lot)
+                try:
+                    function(*lot)
+                except (*{error for error in errors if error},):
+                    pass
+                self.assertEqual(repr(lot), repr(kept))
+
+    def test_equal_arguments_have_equal_answers(self):
+        for function, args, _ in CALLS:
+            told = function(*args)
+            again = function(*deepcopy(args))
+            self.assertEqual(told, again)
+            if isinstance(told, list):
+                self.assertIsNot(told, again)
+
+    def test_returned_lists_are_new(self):
+        found = trees.trees(TRIANGLE)
+        found.append("changed")
+        self.assertEqual(len(trees.trees(TRIANGLE)), 3)
+
+    def test_is_grid_of_any_value(self):
+        for value in WRONG:
+            self.assertIs(grids.is_grid(value), False)
+
+
+if __name__ == "__main__":
+    unittest.main()

@@ -1,0 +1,60 @@
+"""The examples that the document's interface shows."""
+
+import unittest
+
+from wattkeep.dispatch import cheapest
+from wattkeep.errors import BadGrid, BadProgram, BadTable
+from wattkeep.falls import behind_fall
+from wattkeep.flows import flows, reactance
+from wattkeep.grids import bridges, islands
+from wattkeep.programs import best
+from wattkeep.systems import inverse, rank, solved
+from wattkeep.trees import sum_over_lines, trees
+
+TRIANGLE = (("a", "b", "c"), (("x", "a", "b", 1, 9), ("y", "b", "c", 1, 9), ("z", "a", "c", 1, 9)), (), ())
+
+
+class Examples(unittest.TestCase):
+    def test_systems(self):
+        rows = (((1, 1), (1, 1)), ((1, 1), (-1, 1)))
+        self.assertEqual(
+            [rank(rows), solved(rows, ((3, 1), (1, 1))), inverse(rows)],
+            [2, ("one", ((2, 1), (1, 1))), (((1, 2), (1, 2)), ((1, 2), (-1, 2)))],
+        )
+        with self.assertRaises(BadTable):
+            rank(())
+
+    def test_grids(self):
+        grid = (("a", "b", "c"), (("x", "a", "b", 1, 5),), (), ())
+        self.assertEqual([islands(grid), bridges(grid)], [(("a", "b"), ("c",)), ("x",)])
+        with self.assertRaises(BadGrid):
+            islands(())
+
+    def test_flows(self):
+        self.assertEqual(
+            [flows(TRIANGLE, ((3, 1), (0, 1), (-3, 1))), reactance(TRIANGLE, "a", "c")],
+            [((1, 1), (1, 1), (2, 1)), (2, 3)],
+        )
+
+    def test_trees(self):
+        grid = (("a", "b"), (("x", "a", "b", 1, 9), ("y", "a", "b", 2, 9)), (), ())
+        self.assertEqual([trees(grid), sum_over_lines(grid)], [[("x",), ("y",)], (1, 1)])
+
+    def test_falls(self):
+        self.assertEqual(behind_fall(TRIANGLE, ((3, 1), (0, 1), (-3, 1)), "z"), ((3, 1), (3, 1), (0, 1)))
+
+    def test_programs(self):
+        self.assertEqual(best((((-1, 1),), (((2, 1),),), ((3, 1),))), ("best", ((3, 2),), ((1, 2),)))
+        with self.assertRaises(BadProgram):
+            best(())
+
+    def test_dispatch(self):
+        plants = (("p", "a", 9, 1), ("q", "b", 9, 4))
+        grid = (("a", "b"), (("x", "a", "b", 1, 3),), plants, (("n", "b", 5, 50),))
+        self.assertEqual(
+            cheapest(grid), ("plan", (((3, 1), (2, 1)), ((0, 1),)), (((1, 1), (4, 1)), ((3, 1),)))
+        )
+
+
+if __name__ == "__main__":
+    unittest.main()

@@ -1,0 +1,1 @@
+"""Wattkeep: a power grid that is balanced, cheapest and safe behind any fall, with papers."""
