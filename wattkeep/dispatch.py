@@ -1,7 +1,7 @@
 """Plans: what the plants make and the loads shed, and the cheapest plan with the paper that shows it."""
 
 from wattkeep.errors import BadPlan
-from wattkeep.flows import line_flows, share_table
+from wattkeep.flows import are_injections, line_flows, share_table
 from wattkeep.grids import check_grid, first_places, island_places, line_ends
 from wattkeep.programs import best_of
 from wattkeep.ratios import ONE, ZERO, are_ratios, by, dot, is_above, minus, negative, plus, size, times, total, unit
@@ -33,8 +33,7 @@ def is_plan_of(grid, value):
         return False
     if not stands_within(made, grid[2]) or not stands_within(shed, grid[3]):
         return False
-    inject = injections_of(grid, value)
-    return all([total([inject[at] for at in places]) == ZERO for places in island_places(grid)])
+    return are_injections(grid, injections_of(grid, value))
 
 
 def check_plan(grid, plan):
