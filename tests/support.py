@@ -16,6 +16,23 @@ MIXED = (
     (), (),
 )
 
+ONE = (1, 1)
+# Two lines side by side that bear 3 each, a cheap plant at one end and a dear one with the load at the other.
+PARALLEL = (
+    ("a", "b"), (("x", "a", "b", 1, 3), ("y", "a", "b", 1, 3)), (("p", "a", 9, 1), ("q", "b", 9, 4)), (("n", "b", 5, 50),),
+)
+# A ring and a bridge.
+LOOP = (
+    ("a", "b", "c", "d"),
+    (("x", "a", "b", 1, 9), ("y", "b", "c", 2, 9), ("z", "a", "c", 1, 6), ("w", "c", "d", 3, 7)),
+    (("p", "a", 20, 1), ("q", "c", 20, 9), ("r", "b", 4, 3)), (("n", "c", 6, 99), ("m", "d", 5, 40)),
+)
+# Values that are no ratio from 1 to 9.
+NOT_OVER = (
+    (1, 2), (0, 1), (-1, 1), (10, 1), (91, 10), (9001, 1000), (999, 1000), (2, 2), (4, 2), (True, 1), (1, True), (3, -1),
+    [1, 1], (1, 1, 1), (1,), 1, 2, "1", None, True, (), (1, 0), ((1, 1),), {},
+)
+
 # Values of every kind that stand for nothing in the interface.
 WRONG = (
     7, 0, -1, "", "?", "zz", True, False, None, [], [1], {}, {"a": 1}, (True,), (None,), ([],), ({},), (7, "a", None),
@@ -93,6 +110,25 @@ def some_full_grid(random):
         for at in range(random.randint(0, 5))
     )
     return (nodes, lines, plants, loads)
+
+
+def some_joined_grid(random, most=6):
+    """Return a grid of one island with rings, plants and loads, whose lines are about as often full as not."""
+    names = tuple("n" + str(at) for at in range(random.randint(2, most)))
+    ends = [(names[at], random.choice(names[:at])) for at in range(1, len(names))]
+    ends += [tuple(random.sample(names, 2)) for _ in range(random.randint(1, 4))]
+    lines = tuple(
+        ("l" + str(at), *pair, random.randint(1, 9), random.randint(2, 15)) for at, pair in enumerate(ends)
+    )
+    plants = tuple(
+        ("p" + str(at), random.choice(names), random.randint(0, 30), random.randint(0, 9))
+        for at in range(random.randint(1, 4))
+    )
+    loads = tuple(
+        ("d" + str(at), random.choice(names), random.randint(0, 15), random.randint(0, 99))
+        for at in range(random.randint(1, 4))
+    )
+    return (names, lines, plants, loads)
 
 
 def some_injections(random, grid):

@@ -4,14 +4,20 @@ import unittest
 from copy import deepcopy
 
 from tests.support import TRIANGLE, WRONG, ratios
-from wattkeep import dispatch, falls, flows, grids, programs, systems, trees
-from wattkeep.errors import BadGrid, BadInjections, BadName, BadPlan, BadProgram, BadTable, Bridge
+from wattkeep import (
+    cascades, dispatch, falls, flows, grids, hours, programs, ready, safe, shedding, systems, trees,
+)
+from wattkeep.errors import (
+    BadGrid, BadHours, BadInjections, BadName, BadNumber, BadPlan, BadProgram, BadStores, BadTable, Bridge,
+)
 
 TABLE = (ratios(1, 2), ratios(3, 5))
 PROGRAM = (ratios(-1, 2), (ratios(2, 1),), ratios(3))
 INJECT = ratios(3, 0, -3)
 FULL = (TRIANGLE[0], TRIANGLE[1], (("p", "a", 9, 1),), (("n", "b", 5, 50),))
 PLAN = (ratios(5), ratios(0))
+OVER = (3, 2)
+HOURS = (((5,), (3,)), (("s", "a", 9, 4, 2),), (7,))
 
 # Each function with arguments that are right and, for each, the error that is named with it.
 CALLS = (
@@ -44,6 +50,26 @@ CALLS = (
     (dispatch.holds, (FULL, PLAN), (BadGrid, BadPlan)),
     (dispatch.cheapest, (FULL,), (BadGrid,)),
     (dispatch.shows_cheapest, (FULL, ("none", ())), (BadGrid, None)),
+    (shedding.lost, (FULL, PLAN), (BadGrid, BadPlan)),
+    (shedding.least_shed, (FULL,), (BadGrid,)),
+    (shedding.shows_least_shed, (FULL, (PLAN, ())), (BadGrid, None)),
+    (shedding.best_plan, (FULL,), (BadGrid,)),
+    (shedding.shows_best_plan, (FULL, (PLAN, (), (0, 1), ())), (BadGrid, None)),
+    (safe.is_safe, (FULL, PLAN, ("x",), OVER), (BadGrid, BadPlan, BadName, BadNumber)),
+    (safe.safe_plan, (FULL, ("x",), OVER), (BadGrid, BadName, BadNumber)),
+    (safe.shows_safe_plan, (FULL, ("x",), OVER, ("none", ())), (BadGrid, BadName, BadNumber, None)),
+    (safe.mended, (FULL, PLAN, "x", (3,)), (BadGrid, BadPlan, BadName, BadNumber)),
+    (safe.shows_mended, (FULL, PLAN, "x", (3,), (PLAN, ())), (BadGrid, BadPlan, BadName, BadNumber, None)),
+    (safe.behind_each, (FULL, PLAN, (3,)), (BadGrid, BadPlan, BadNumber)),
+    (ready.is_ready, (FULL, PLAN, OVER), (BadGrid, BadPlan, BadNumber)),
+    (ready.ready_plan, (FULL, OVER), (BadGrid, BadNumber)),
+    (ready.shows_ready_plan, (FULL, OVER, (PLAN, (), (0, 1), ())), (BadGrid, BadNumber, None)),
+    (ready.price_of_ready, (FULL, OVER), (BadGrid, BadNumber)),
+    (cascades.left_behind, (FULL, ("x",), PLAN), (BadGrid, BadName, BadPlan)),
+    (cascades.served, (FULL, PLAN), (BadGrid, BadPlan)),
+    (cascades.cascade, (FULL, PLAN), (BadGrid, BadPlan)),
+    (hours.hours_plan, (FULL, *HOURS), (BadGrid, BadHours, BadStores, BadHours)),
+    (hours.shows_hours_plan, (FULL, *HOURS, ("none", ())), (BadGrid, BadHours, BadStores, BadHours, None)),
 )
 
 
@@ -86,6 +112,10 @@ class Arguments(unittest.TestCase):
             (falls.behind_falls, (chain, ratios(1, -1, 0), ("x",)), Bridge),
             (flows.sent, (chain, "a", "c"), BadInjections), (flows.sent, (chain, "a", "x"), BadName),
             (flows.reactance, (chain, "c", "b"), BadInjections), (trees.reactance_by_trees, (chain, "a", "c"), BadInjections),
+            (safe.is_safe, (chain, ((), ()), ("x",), None), Bridge), (safe.is_safe, (chain, ((), ()), ("x", "y"), None), BadName),
+            (safe.is_safe, (chain, (), ("x",), None), BadPlan), (safe.safe_plan, (chain, ("x",), None), Bridge),
+            (safe.shows_safe_plan, (chain, ("x", "x"), (1, 1), None), Bridge),
+            (cascades.left_behind, (chain, ("y",), None), BadName), (cascades.left_behind, (chain, ("x",), None), BadPlan),
         ):
             self.assertIs(self.raised(function, args), error)
 

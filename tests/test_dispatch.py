@@ -2,9 +2,8 @@ import unittest
 from fractions import Fraction
 from random import Random
 
-from tests.support import (
-    SINGLE, WRONG, fraction, fractions, islands_of, ratio, ratios, some_full_grid,
-)
+from tests.sums import NO_FALLS, bent, expected, in_row, injections, is_cheapest, some_plan
+from tests.support import SINGLE, WRONG, fraction, fractions, ratio, ratios, some_full_grid
 from wattkeep.dispatch import cheapest, cost_of, flows_of, holds, is_plan, shows_cheapest
 from wattkeep.errors import BadGrid, BadPlan
 from wattkeep.flows import flows
@@ -20,104 +19,14 @@ TWO = (
 )
 
 
-def spot(grid, item):
-    return grid[0].index(item[1])
-
-
-def injections(grid, plan):
-    found = [Fraction(0)] * len(grid[0])
-    for plant, made in zip(grid[2], fractions(plan[0])):
-        found[spot(grid, plant)] += made
-    for load, shed in zip(grid[3], fractions(plan[1])):
-        found[spot(grid, load)] += shed - load[2]
-    return ratios(*found)
-
-
-def is_some_plan(grid, plan):
-    """Tell whether a pair of tuples of ratios is a plan."""
-    made, shed = [fractions(part) for part in plan]
-    if len(made) != len(grid[2]) or len(shed) != len(grid[3]):
-        return False
-    if any(not 0 <= part <= user[2] for part, user in zip(made + shed, grid[2] + grid[3])):
-        return False
-    inject = dict(zip(grid[0], fractions(injections(grid, plan))))
-    return not any(sum(inject[node] for node in island) for island in islands_of(grid))
-
-
-def pulls_balance(grid, prices, rents):
-    sums = [Fraction(0)] * len(grid[0])
-    for line, rent in zip(grid[1], rents):
-        one, other = grid[0].index(line[1]), grid[0].index(line[2])
-        pull = (prices[other] - prices[one] - rent) / line[3]
-        sums[one] += pull
-        sums[other] -= pull
-    return not any(sums)
-
-
 def is_right(grid, told):
     """Tell whether an answer is as point 13 says, with Fractions."""
-    prices, rents = [fractions(part) for part in told[-1]]
-    if len(prices) != len(grid[0]) or len(rents) != len(grid[1]) or not pulls_balance(grid, prices, rents):
-        return False
-    if told[0] == "none" and len(told) == 2:
-        needs = sum(prices[spot(grid, load)] * load[2] for load in grid[3])
-        mosts = sum(plant[2] * max(Fraction(0), prices[spot(grid, plant)]) for plant in grid[2])
-        return needs > mosts + sum(line[4] * abs(rent) for line, rent in zip(grid[1], rents))
-    if told[0] != "plan" or len(told) != 3 or not is_some_plan(grid, told[1]) or any(fractions(told[1][1])):
-        return False
-    for line, flow, rent in zip(grid[1], fractions(flows(grid, injections(grid, told[1]))), rents):
-        if abs(flow) > line[4] or rent > 0 and flow != line[4] or rent < 0 and flow != -line[4]:
-            return False
-    for plant, made in zip(grid[2], fractions(told[1][0])):
-        price = prices[spot(grid, plant)]
-        if price > plant[3] and made != plant[2] or price < plant[3] and made != 0:
-            return False
-    return True
+    return is_cheapest(grid, NO_FALLS, in_row(told))
 
 
-def some_plan(random, grid):
-    """Return a plan of a grid: in each island what is made and what is served come to the same."""
-    made, shed = {}, {}
-    for island in islands_of(grid):
-        plants = [plant for plant in grid[2] if plant[1] in island]
-        loads = [load for load in grid[3] if load[1] in island]
-        most = min(sum(plant[2] for plant in plants), sum(load[2] for load in loads))
-        amount = most * Fraction(random.randint(0, 4), 4)
-        left = amount
-        for plant in random.sample(plants, len(plants)):
-            made[plant[0]] = min(left, Fraction(plant[2]))
-            left -= made[plant[0]]
-        left = amount
-        for load in random.sample(loads, len(loads)):
-            served = min(left, Fraction(load[2]))
-            shed[load[0]] = load[2] - served
-            left -= served
-    return (ratios(*[made[plant[0]] for plant in grid[2]]), ratios(*[shed[load[0]] for load in grid[3]]))
-
-
-def bent(value):
-    """Return a value of nested tuples bent in one place, for each place and some ways to bend."""
-    if isinstance(value, tuple) and len(value) == 2 and all(isinstance(part, int) for part in value):
-        top, low = value
-        return [(top + low, low), (top - low, low), (2 * top, 2 * low), (top, -low), [top, low], top, None, (True, low)]
-    if not isinstance(value, tuple):
-        return [None, 3, "", "plans", [value]]
-    found = [value + (value,), list(value), None, {}, value + ((0, 1),)]
-    if value:
-        found.append(value[:-1])
-    for at, part in enumerate(value):
-        found += [value[:at] + (made,) + value[at + 1:] for made in bent(part)]
-    return found
-
-
-def expected(grid, value):
+def expected_of(grid, value):
     """Tell what shows_cheapest must tell of any value."""
-    if not isinstance(value, tuple) or any(not isinstance(part, tuple) or len(part) != 2 for part in value[1:]):
-        return False
-    try:
-        return is_right(grid, value)
-    except (AssertionError, ValueError, TypeError, IndexError):
-        return False
+    return expected(lambda told: is_right(grid, told), value)
 
 
 class Plans(unittest.TestCase):
@@ -328,7 +237,7 @@ class ShowsCheapest(unittest.TestCase):
         for grid in [PAIR, RING, TWO] + [some_full_grid(random) for _ in range(30)]:
             told = cheapest(grid)
             for value in bent(told):
-                right = expected(grid, value)
+                right = expected_of(grid, value)
                 falses += not right
                 self.assertIs(shows_cheapest(grid, value), right, (grid, value))
         self.assertGreater(falses, 2000)

@@ -2,12 +2,15 @@
 
 import unittest
 
+from wattkeep.cascades import cascade
 from wattkeep.dispatch import cheapest
 from wattkeep.errors import BadGrid, BadProgram, BadTable
 from wattkeep.falls import behind_fall
 from wattkeep.flows import flows, reactance
 from wattkeep.grids import bridges, islands
 from wattkeep.programs import best
+from wattkeep.ready import price_of_ready
+from wattkeep.shedding import least_shed, lost
 from wattkeep.systems import inverse, rank, solved
 from wattkeep.trees import sum_over_lines, trees
 
@@ -54,6 +57,20 @@ class Examples(unittest.TestCase):
         self.assertEqual(
             cheapest(grid), ("plan", (((3, 1), (2, 1)), ((0, 1),)), (((1, 1), (4, 1)), ((3, 1),)))
         )
+
+    def test_shedding(self):
+        grid = (("a", "b"), (("x", "a", "b", 1, 3),), (("p", "a", 9, 1),), (("n", "b", 5, 50),))
+        plan, paper = least_shed(grid)
+        self.assertEqual([plan[1], lost(grid, plan)], [((2, 1),), (100, 1)])
+
+    def test_ready(self):
+        lines = (("x", "a", "b", 1, 3), ("y", "a", "b", 1, 3))
+        grid = (("a", "b"), lines, (("p", "a", 9, 1), ("q", "b", 9, 4)), (("n", "b", 5, 50),))
+        self.assertEqual(price_of_ready(grid, (1, 1)), ((0, 1), (6, 1)))
+
+    def test_cascades(self):
+        grid = (("a", "b"), (("x", "a", "b", 1, 3),), (("p", "a", 9, 1),), (("n", "b", 5, 50),))
+        self.assertEqual(cascade(grid, (((5, 1),), ((0, 1),))), ((("x",), (((0, 1),), ((5, 1),))),))
 
 
 if __name__ == "__main__":

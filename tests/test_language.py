@@ -41,6 +41,11 @@ LISTED = {
     "falls": "factors behind_fall behind_falls",
     "programs": "best shows_best",
     "dispatch": "is_plan flows_of cost_of holds cheapest shows_cheapest",
+    "shedding": "lost least_shed shows_least_shed best_plan shows_best_plan",
+    "safe": "is_safe safe_plan shows_safe_plan mended shows_mended behind_each",
+    "ready": "ready_plan shows_ready_plan is_ready price_of_ready",
+    "cascades": "left_behind served cascade",
+    "hours": "hours_plan shows_hours_plan",
 }
 
 

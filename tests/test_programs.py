@@ -2,6 +2,7 @@ import unittest
 from fractions import Fraction
 from random import Random
 
+from tests.sums import is_told, product
 from tests.support import WRONG, fraction, fractions, ratio, ratios, some_ratio
 from wattkeep.errors import BadProgram
 from wattkeep.programs import best, shows_best
@@ -9,31 +10,6 @@ from wattkeep.programs import best, shows_best
 
 def program(costs, rows, rights):
     return (ratios(*costs), tuple(ratios(*row) for row in rows), ratios(*rights))
-
-
-def product(ones, others):
-    return sum((one * other for one, other in zip(ones, others)), Fraction(0))
-
-
-def is_right(program, told):
-    """Tell whether an answer has the sums of point 10, with Fractions."""
-    costs, rights = fractions(program[0]), fractions(program[2])
-    rows = [fractions(row) for row in program[1]]
-    word, parts = told[0], [fractions(part) for part in told[1:]]
-    if any(number < 0 for part in parts for number in part):
-        return False
-    if word == "none":
-        (paper,) = parts
-        sums = [product([row[col] for row in rows], paper) for col in range(len(costs))]
-        return len(paper) == len(rows) and min(sums) >= 0 and product(rights, paper) < 0
-    point, last = parts
-    if len(point) != len(costs) or any(product(row, point) > right for row, right in zip(rows, rights)):
-        return False
-    if word == "endless":
-        return len(last) == len(costs) and all(product(row, last) <= 0 for row in rows) and product(costs, last) < 0
-    sums = [product([row[col] for row in rows], last) + costs[col] for col in range(len(costs))]
-    same = product(costs, point) == -product(rights, last)
-    return word == "best" and len(last) == len(rows) and min(sums) >= 0 and same
 
 
 BEALE = program(
@@ -109,7 +85,7 @@ class Best(unittest.TestCase):
         for word, costs, case in CASES:
             told = best(case)
             self.assertEqual(told[0], word, case)
-            self.assertTrue(is_right(case, told), case)
+            self.assertTrue(is_told(case, told), case)
             if word == "best":
                 self.assertEqual(product(fractions(case[0]), fractions(told[1])), costs)
 
@@ -120,7 +96,7 @@ class Best(unittest.TestCase):
             case = some_program(random)
             told = best(case)
             words.append(told[0])
-            self.assertTrue(is_right(case, told), case)
+            self.assertTrue(is_told(case, told), case)
             self.assertEqual(best(case), told)
         self.assertEqual(set(words), {"best", "none", "endless"})
 
@@ -134,7 +110,7 @@ class Best(unittest.TestCase):
             case = program([random.randint(-5, 2) for _ in range(wide)], rows, rights)
             told = best(case)
             self.assertEqual(told[0], "best")
-            self.assertTrue(is_right(case, told))
+            self.assertTrue(is_told(case, told))
 
     def test_pairing(self):
         # Each of six workers does one of six jobs: of the 720 best corners many rows are met at each.
@@ -147,7 +123,7 @@ class Best(unittest.TestCase):
         case = program(costs, rows, [1] * (2 * count) + [-1] * (2 * count))
         told = best(case)
         self.assertEqual(told[0], "best")
-        self.assertTrue(is_right(case, told))
+        self.assertTrue(is_told(case, told))
 
     def test_a_cube_that_is_bent(self):
         # Klee and Minty: from 0 a search may walk over all corners.
@@ -155,7 +131,7 @@ class Best(unittest.TestCase):
         rows = [[2 ** (k - at + 1) if at < k else int(at == k) for at in range(count)] for k in range(count)]
         case = program([-(2 ** (count - 1 - at)) for at in range(count)], rows, [5 ** (k + 1) for k in range(count)])
         told = best(case)
-        self.assertTrue(is_right(case, told))
+        self.assertTrue(is_told(case, told))
         self.assertEqual(told[1][-1], ratio(5 ** count))
 
     def test_at_the_bounds(self):
@@ -163,7 +139,7 @@ class Best(unittest.TestCase):
         costs = [random.randint(-9, 9) for _ in range(80)]
         rows = [[random.choice((0, 0, 0, 1, 2, -1)) for _ in range(80)] for _ in range(79)] + [[1] * 80]
         case = program(costs, rows, [random.randint(-3, 9) for _ in range(79)] + [50])
-        self.assertTrue(is_right(case, best(case)))
+        self.assertTrue(is_told(case, best(case)))
         self.assertIs(shows_best(case, best(case)), True)
 
 
@@ -213,7 +189,7 @@ class ShowsBest(unittest.TestCase):
             for value in bent(best(case)):
                 try:
                     expected = isinstance(value, tuple) and len(value) == (2 if value[0] == "none" else 3)
-                    expected = expected and is_right(case, value)
+                    expected = expected and is_told(case, value)
                 except (AssertionError, ValueError, TypeError):
                     expected = False
                 self.assertIs(shows_best(case, value), expected, (case, value))

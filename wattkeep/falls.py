@@ -1,9 +1,13 @@
 """Falls: what the other lines bear when lines fall and the injections stay."""
 
-from wattkeep.errors import Bridge
+from wattkeep.errors import BadNumber, Bridge
 from wattkeep.flows import check_injections, line_flows, transfer
 from wattkeep.grids import check_grid, check_lines, is_bridge, line_place, without_lines
-from wattkeep.ratios import ZERO
+from wattkeep.ratios import ONE, ZERO, is_above, is_ratio
+
+MOST_OVER = 9
+# No line may fall.
+NO_FALLS = ((), (1, 1))
 
 
 def check_falls(grid, names):
@@ -13,6 +17,28 @@ def check_falls(grid, names):
         if name in names[:at] or is_bridge(left, name):
             raise Bridge("a bridge, or fallen")
         left = without_lines(left, (name,))
+
+
+def check_each_fall(grid, names):
+    """Raise BadName unless names is a tuple of names of lines, Bridge if one of these, falling alone, is a bridge."""
+    check_lines(grid, names)
+    if any([is_bridge(grid, name) for name in names]):
+        raise Bridge("a bridge")
+
+
+def check_over(over):
+    """Raise BadNumber unless a value is a ratio from 1 to 9."""
+    if not is_ratio(over) or is_above(ONE, over) or is_above(over, (MOST_OVER, 1)):
+        raise BadNumber("no ratio from 1 to 9")
+
+
+def cases_of(grid, falls):
+    """Return (grid that is left, how much of its limit a line may bear there) of no fall and of each fall.
+
+    Falls are (names, over): the lines of which any one may fall, and how much of its limit a line may bear behind it.
+    """
+    names, over = falls
+    return [(grid, ONE)] + [(without_lines(grid, (name,)), over) for name in names]
 
 
 def filled(grid, left, told, own):
