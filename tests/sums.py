@@ -248,6 +248,21 @@ def best_in_row(told):
     return (plan, (paper,), rate, in_row(least))
 
 
+def is_cheapest_told(grid, told):
+    """Tell whether an answer is what cheapest may tell."""
+    return isinstance(told, tuple) and is_cheapest(grid, NO_FALLS, in_row(told))
+
+
+def is_least_told(grid, told):
+    """Tell whether an answer is what least_shed may tell."""
+    return isinstance(told, tuple) and len(told) == 2 and is_least(grid, NO_FALLS, mosts_of(grid), in_row(told))
+
+
+def cost_told(grid, told):
+    """Return what a plan costs that cheapest told, None if it told that there is none."""
+    return price_of(grid, told[1]) if told[0] == "plan" else None
+
+
 def expected(check, value):
     """Tell what a function whose name begins with shows must tell of any value, with a check of right answers."""
     if not isinstance(value, tuple):

@@ -5,10 +5,12 @@ from copy import deepcopy
 
 from tests.support import TRIANGLE, WRONG, ratios
 from wattkeep import (
-    cascades, dispatch, falls, flows, grids, hours, programs, ready, safe, shedding, systems, trees,
+    anyneeds, cascades, dispatch, falls, flows, grids, hours, offers, programs, ready, safe, shedding, starts, switching,
+    systems, trees,
 )
 from wattkeep.errors import (
-    BadGrid, BadHours, BadInjections, BadName, BadNumber, BadPlan, BadProgram, BadStores, BadTable, Bridge,
+    BadGrid, BadHours, BadInjections, BadName, BadNumber, BadOffers, BadPlan, BadProgram, BadStarts, BadStores, BadTable,
+    Bridge,
 )
 
 TABLE = (ratios(1, 2), ratios(3, 5))
@@ -17,6 +19,7 @@ INJECT = ratios(3, 0, -3)
 FULL = (TRIANGLE[0], TRIANGLE[1], (("p", "a", 9, 1),), (("n", "b", 5, 50),))
 PLAN = (ratios(5), ratios(0))
 OVER = (3, 2)
+OFFERS = ((("w", "a", "b", 2, 3), 20),)
 HOURS = (((5,), (3,)), (("s", "a", 9, 4, 2),), (7,))
 
 # Each function with arguments that are right and, for each, the error that is named with it.
@@ -68,9 +71,32 @@ CALLS = (
     (cascades.left_behind, (FULL, ("x",), PLAN), (BadGrid, BadName, BadPlan)),
     (cascades.served, (FULL, PLAN), (BadGrid, BadPlan)),
     (cascades.cascade, (FULL, PLAN), (BadGrid, BadPlan)),
+    (starts.cheapest_on, (FULL, (20,)), (BadGrid, BadStarts)),
+    (starts.shows_cheapest_on, (FULL, (20,), ((True,), ())), (BadGrid, BadStarts, None)),
+    (switching.best_off, (FULL, 1), (BadGrid, BadNumber)),
+    (switching.shows_best_off, (FULL, 1, ((), ())), (BadGrid, BadNumber, None)),
+    (switching.hurtful, (FULL,), (BadGrid,)),
+    (offers.best_build, (FULL, OFFERS, 20), (BadGrid, BadOffers, BadNumber)),
+    (offers.shows_best_build, (FULL, OFFERS, 20, ((), 0, ())), (BadGrid, BadOffers, BadNumber, None)),
+    (anyneeds.surely, (FULL, (2,)), (BadGrid, BadHours)),
+    (anyneeds.shows_surely, (FULL, (2,), (True, ())), (BadGrid, BadHours, None)),
+    (anyneeds.worst, (FULL, (2,)), (BadGrid, BadHours)),
+    (anyneeds.shows_worst, (FULL, (2,), ((0, 1), (2,), ())), (BadGrid, BadHours, None)),
     (hours.hours_plan, (FULL, *HOURS), (BadGrid, BadHours, BadStores, BadHours)),
     (hours.shows_hours_plan, (FULL, *HOURS, ("none", ())), (BadGrid, BadHours, BadStores, BadHours, None)),
 )
+
+# Integers among WRONG that are right where an integer stands.
+RIGHT_INTEGERS = {
+    (switching.best_off, 1): (0,), (switching.shows_best_off, 1): (0,), (offers.best_build, 2): (0, 7),
+    (offers.shows_best_build, 2): (0, 7),
+}
+
+
+def wrong_for(function, at):
+    """Return the values that are wrong for an argument."""
+    right = RIGHT_INTEGERS.get((function, at), ())
+    return [value for value in WRONG if isinstance(value, bool) or not isinstance(value, int) or value not in right]
 
 
 def put(args, at, value):
@@ -89,7 +115,7 @@ class Arguments(unittest.TestCase):
     def test_every_wrong_kind_gets_its_error(self):
         for function, args, errors in CALLS:
             for at, error in enumerate(errors):
-                for value in WRONG:
+                for value in wrong_for(function, at):
                     told = self.raised(function, put(args, at, value))
                     self.assertIs(told, error, (function.__name__, at, value))
 
@@ -97,7 +123,7 @@ class Arguments(unittest.TestCase):
         for function, args, errors in CALLS:
             for first in range(len(args)):
                 for second in range(first + 1, len(args)):
-                    for value in WRONG:
+                    for value in wrong_for(function, first):
                         wrong = put(put(args, first, value), second, value)
                         told = self.raised(function, wrong)
                         self.assertIs(told, errors[first], (function.__name__, first, second, value))

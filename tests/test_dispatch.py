@@ -2,7 +2,7 @@ import unittest
 from fractions import Fraction
 from random import Random
 
-from tests.sums import NO_FALLS, bent, expected, in_row, injections, is_cheapest, some_plan
+from tests.sums import bent, expected, injections, is_cheapest_told, some_plan
 from tests.support import SINGLE, WRONG, fraction, fractions, ratio, ratios, some_full_grid
 from wattkeep.dispatch import cheapest, cost_of, flows_of, holds, is_plan, shows_cheapest
 from wattkeep.errors import BadGrid, BadPlan
@@ -19,14 +19,9 @@ TWO = (
 )
 
 
-def is_right(grid, told):
-    """Tell whether an answer is as point 13 says, with Fractions."""
-    return is_cheapest(grid, NO_FALLS, in_row(told))
-
-
 def expected_of(grid, value):
     """Tell what shows_cheapest must tell of any value."""
-    return expected(lambda told: is_right(grid, told), value)
+    return expected(lambda told: is_cheapest_told(grid, told), value)
 
 
 class Plans(unittest.TestCase):
@@ -101,7 +96,7 @@ class Cheapest(unittest.TestCase):
         self.assertEqual(cheapest(PAIR)[1], (ratios(3, 2), ratios(0)))
         told = cheapest(RING)
         self.assertEqual(told[:2], ("plan", (ratios(9, 11), ratios(0))))
-        self.assertTrue(is_right(RING, told))
+        self.assertTrue(is_cheapest_told(RING, told))
         self.assertEqual(cheapest(TWO)[1], (ratios(4, 2, 4), ratios(0, 0)))
         self.assertEqual(cheapest(SINGLE), ("plan", ((), ()), (cheapest(SINGLE)[2][0], ())))
         # Equal prices, and a plant that makes nothing for nothing.
@@ -120,13 +115,13 @@ class Cheapest(unittest.TestCase):
         ):
             told = cheapest(grid)
             self.assertEqual((told[0], len(told)), ("none", 2))
-            self.assertTrue(is_right(grid, told))
+            self.assertTrue(is_cheapest_told(grid, told))
 
     def test_a_full_line_need_not_part_prices(self):
         grid = (("a", "b"), (("x", "a", "b", 1, 5),), (("p", "a", 9, 1),), (("n", "b", 5, 9),))
         told = cheapest(grid)
         self.assertEqual(told[1], (ratios(5), ratios(0)))
-        self.assertTrue(is_right(grid, told))
+        self.assertTrue(is_cheapest_told(grid, told))
 
     def test_no_lines_plants_or_loads(self):
         for grid in (
@@ -137,7 +132,7 @@ class Cheapest(unittest.TestCase):
         ):
             told = cheapest(grid)
             self.assertEqual(told[0], "plan")
-            self.assertTrue(is_right(grid, told))
+            self.assertTrue(is_cheapest_told(grid, told))
 
     def test_sums(self):
         random = Random(62)
@@ -146,7 +141,7 @@ class Cheapest(unittest.TestCase):
             grid = some_full_grid(random)
             told = cheapest(grid)
             words.append(told[0])
-            self.assertTrue(is_right(grid, told), grid)
+            self.assertTrue(is_cheapest_told(grid, told), grid)
             self.assertIs(shows_cheapest(grid, told), True)
             self.assertEqual(cheapest(grid), told)
         self.assertGreater(words.count("plan"), 30)

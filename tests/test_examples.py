@@ -2,6 +2,7 @@
 
 import unittest
 
+from wattkeep.anyneeds import worst
 from wattkeep.cascades import cascade
 from wattkeep.dispatch import cheapest
 from wattkeep.errors import BadGrid, BadProgram, BadTable
@@ -11,6 +12,8 @@ from wattkeep.grids import bridges, islands
 from wattkeep.programs import best
 from wattkeep.ready import price_of_ready
 from wattkeep.shedding import least_shed, lost
+from wattkeep.starts import cheapest_on
+from wattkeep.switching import hurtful
 from wattkeep.systems import inverse, rank, solved
 from wattkeep.trees import sum_over_lines, trees
 
@@ -71,6 +74,19 @@ class Examples(unittest.TestCase):
     def test_cascades(self):
         grid = (("a", "b"), (("x", "a", "b", 1, 3),), (("p", "a", 9, 1),), (("n", "b", 5, 50),))
         self.assertEqual(cascade(grid, (((5, 1),), ((0, 1),))), ((("x",), (((0, 1),), ((5, 1),))),))
+
+    def test_starts(self):
+        grid = (("a",), (), (("p", "a", 9, 1), ("q", "a", 9, 2)), (("n", "a", 5, 50),))
+        self.assertEqual(cheapest_on(grid, (9, 1))[0], (False, True))
+
+    def test_switching(self):
+        lines = (("x", "a", "b", 1, 90), ("y", "b", "c", 1, 90), ("z", "a", "c", 1, 6))
+        grid = (("a", "b", "c"), lines, (("p", "a", 60, 1), ("q", "c", 60, 9)), (("n", "c", 20, 99),))
+        self.assertEqual(hurtful(grid), (("z", (108, 1), (20, 1)),))
+
+    def test_anyneeds(self):
+        grid = (("a",), (), (("p", "a", 4, 1),), (("n", "a", 6, 5),))
+        self.assertEqual(worst(grid, (1,))[:2], ((10, 1), (6,)))
 
 
 if __name__ == "__main__":

@@ -46,6 +46,10 @@ LISTED = {
     "ready": "ready_plan shows_ready_plan is_ready price_of_ready",
     "cascades": "left_behind served cascade",
     "hours": "hours_plan shows_hours_plan",
+    "starts": "cheapest_on shows_cheapest_on",
+    "switching": "best_off shows_best_off hurtful",
+    "offers": "best_build shows_best_build",
+    "anyneeds": "surely shows_surely worst shows_worst",
 }
 
 

@@ -3,7 +3,7 @@ from fractions import Fraction
 from random import Random
 
 from tests.sums import (
-    NO_FALLS, bent, best_in_row, expected, in_row, is_best, is_least, is_some_plan, loss_of, mosts_of, price_of, some_plan,
+    NO_FALLS, bent, best_in_row, expected, is_best, is_least_told, is_some_plan, loss_of, price_of, some_plan,
 )
 from tests.support import SINGLE, WRONG, fraction, fractions, ratio, ratios, some_full_grid
 from wattkeep.dispatch import cheapest, cost_of, holds
@@ -25,10 +25,6 @@ APART = (
     ("a", "s", "b", "t"), (("x", "a", "b", 2, 4),), (("p", "t", 9, 2), ("q", "a", 2, 3)),
     (("n", "s", 4, 9), ("m", "b", 5, 7)),
 )
-
-
-def is_least_told(grid, told):
-    return is_least(grid, NO_FALLS, mosts_of(grid), in_row(told))
 
 
 def is_best_told(grid, told):
@@ -171,7 +167,7 @@ class ShowsLeastShed(unittest.TestCase):
         falses = 0
         for grid in [WEAK, SHORT, RING, APART] + [some_full_grid(random) for _ in range(25)]:
             for value in bent(least_shed(grid)):
-                right = expected(lambda told: len(told) == 2 and is_least_told(grid, told), value)
+                right = expected(lambda told: is_least_told(grid, told), value)
                 falses += not right
                 self.assertIs(shows_least_shed(grid, value), right, (grid, value))
         self.assertGreater(falses, 2000)
