@@ -290,3 +290,13 @@ def bent(value):
     for at, part in enumerate(value):
         found += [value[:at] + (made,) + value[at + 1:] for made in bent(part)]
     return found
+
+
+def try_bent(case, answer, check, shows):
+    """Hold what shows tells of an answer bent in each place against a check; return how often it must tell False."""
+    falses = 0
+    for value in bent(answer):
+        right = expected(check, value)
+        falses += not right
+        case.assertIs(shows(value), right, value)
+    return falses

@@ -2,7 +2,7 @@ import unittest
 from itertools import product
 from random import Random
 
-from tests.sums import bent, expected, is_cheapest_told, is_least_told, loss_of
+from tests.sums import is_cheapest_told, is_least_told, loss_of, try_bent
 from tests.support import SINGLE, WRONG, fraction, ratio, ratios, some_full_grid, some_joined_grid
 from wattkeep.anyneeds import shows_surely, shows_worst, surely, worst
 from wattkeep.dispatch import cheapest
@@ -174,10 +174,10 @@ class ShowsSurely(unittest.TestCase):
             if len(grid[0]) < 5 and len(corners_of(grid, lows)) < 5:
                 lots.append((grid, lows))
         for grid, lows in lots:
-            for value in bent(surely(grid, lows)):
-                right = expected(lambda told: is_sure(grid, lows, told), value)
-                falses += not right
-                self.assertIs(shows_surely(grid, lows, value), right, (grid, lows, value))
+            falses += try_bent(
+                self, surely(grid, lows), lambda told: is_sure(grid, lows, told),
+                lambda told: shows_surely(grid, lows, told),
+            )
         self.assertGreater(falses, 1000)
 
     def test_values_of_other_kinds(self):
@@ -257,10 +257,10 @@ class ShowsWorst(unittest.TestCase):
             if len(grid[0]) < 5 and len(corners_of(grid, lows)) < 5:
                 lots.append((grid, lows))
         for grid, lows in lots:
-            for value in bent(worst(grid, lows)):
-                right = expected(lambda told: is_worst(grid, lows, told), value)
-                falses += not right
-                self.assertIs(shows_worst(grid, lows, value), right, (grid, lows, value))
+            falses += try_bent(
+                self, worst(grid, lows), lambda told: is_worst(grid, lows, told),
+                lambda told: shows_worst(grid, lows, told),
+            )
         self.assertGreater(falses, 1000)
 
     def test_values_of_other_kinds(self):

@@ -2,7 +2,7 @@ import unittest
 from fractions import Fraction
 from random import Random
 
-from tests.sums import bent, expected, injections, is_cheapest_told, some_plan
+from tests.sums import injections, is_cheapest_told, some_plan, try_bent
 from tests.support import SINGLE, WRONG, fraction, fractions, ratio, ratios, some_full_grid
 from wattkeep.dispatch import cheapest, cost_of, flows_of, holds, is_plan, shows_cheapest
 from wattkeep.errors import BadGrid, BadPlan
@@ -17,11 +17,6 @@ TWO = (
     ("a", "s", "b", "t"), (("x", "a", "b", 2, 4), ("y", "t", "s", 3, 2)),
     (("p", "a", 9, 2), ("q", "t", 9, 1), ("r", "s", 9, 7)), (("n", "b", 4, 9), ("m", "s", 6, 9)),
 )
-
-
-def expected_of(grid, value):
-    """Tell what shows_cheapest must tell of any value."""
-    return expected(lambda told: is_cheapest_told(grid, told), value)
 
 
 class Plans(unittest.TestCase):
@@ -230,11 +225,9 @@ class ShowsCheapest(unittest.TestCase):
         random = Random(64)
         falses = 0
         for grid in [PAIR, RING, TWO] + [some_full_grid(random) for _ in range(30)]:
-            told = cheapest(grid)
-            for value in bent(told):
-                right = expected_of(grid, value)
-                falses += not right
-                self.assertIs(shows_cheapest(grid, value), right, (grid, value))
+            falses += try_bent(
+                self, cheapest(grid), lambda told: is_cheapest_told(grid, told), lambda told: shows_cheapest(grid, told),
+            )
         self.assertGreater(falses, 2000)
 
     def test_values_of_other_kinds(self):

@@ -2,7 +2,7 @@ import unittest
 from fractions import Fraction
 from random import Random
 
-from tests.sums import bent, cases, expected, flows_in, is_told, product, spot
+from tests.sums import cases, flows_in, is_told, product, spot, try_bent
 from tests.support import (
     SINGLE, WRONG, fraction, fractions, islands_of, ratio, ratios, some_full_grid, some_joined_grid,
 )
@@ -363,10 +363,10 @@ class ShowsHoursPlan(unittest.TestCase):
             if len(lot[1]) < 3 and len(grid[2]) < 4:
                 lots.append(lot)
         for lot in lots:
-            for value in bent(hours_plan(*lot)):
-                right = expected(lambda told: is_hours_told(*lot, told), value)
-                falses += not right
-                self.assertIs(shows_hours_plan(*lot, value), right, (lot, value))
+            falses += try_bent(
+                self, hours_plan(*lot), lambda told: is_hours_told(*lot, told),
+                lambda told: shows_hours_plan(*lot, told),
+            )
         self.assertGreater(falses, 2000)
 
     def test_values_of_other_kinds(self):

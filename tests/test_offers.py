@@ -2,7 +2,7 @@ import unittest
 from itertools import combinations
 from random import Random
 
-from tests.sums import bent, expected, is_least_told, loss_of
+from tests.sums import is_least_told, loss_of, try_bent
 from tests.support import SINGLE, WRONG, ratios, some_full_grid, some_joined_grid
 from wattkeep.errors import BadGrid, BadNumber, BadOffers
 from wattkeep.offers import best_build, shows_best_build
@@ -194,10 +194,10 @@ class ShowsBestBuild(unittest.TestCase):
             if 1 < len(grid[0]) < 4:
                 lots.append((grid, some_offers(random, grid)[:2], 5))
         for grid, offers, budget in lots:
-            for value in bent(best_build(grid, offers, budget)):
-                right = expected(lambda told: is_right(grid, offers, budget, told), value)
-                falses += not right
-                self.assertIs(shows_best_build(grid, offers, budget, value), right, (grid, offers, budget, value))
+            falses += try_bent(
+                self, best_build(grid, offers, budget), lambda told: is_right(grid, offers, budget, told),
+                lambda told: shows_best_build(grid, offers, budget, told),
+            )
         self.assertGreater(falses, 1000)
 
     def test_values_of_other_kinds(self):

@@ -3,8 +3,8 @@ from fractions import Fraction
 from random import Random
 
 from tests.sums import (
-    NO_FALLS, bent, bridge_names, expected, is_best, is_safe_plan, loads_follow, loss_of, mosts_of, plants_follow, price_of,
-    ring_names, some_plan, stands,
+    NO_FALLS, bridge_names, is_best, is_safe_plan, loads_follow, loss_of, mosts_of, plants_follow, price_of,
+    ring_names, some_plan, stands, try_bent,
 )
 from tests.support import (
     CHAIN, LOOP, NOT_OVER, ONE, PARALLEL, SINGLE, WRONG, fraction, ratio, ratios, some_full_grid,
@@ -199,10 +199,10 @@ class ShowsReadyPlan(unittest.TestCase):
         lots = [(PARALLEL, ONE), (WEAK, (3, 2)), (BRIDGED, ONE)] + [(some_joined_grid(random, 3), ONE) for _ in range(5)]
         for grid, over in lots:
             falls = falls_of(grid, over)
-            for value in bent(ready_plan(grid, over)):
-                right = expected(lambda told: len(told) == 4 and is_best(grid, falls, told), value)
-                falses += not right
-                self.assertIs(shows_ready_plan(grid, over, value), right, (grid, over, value))
+            falses += try_bent(
+                self, ready_plan(grid, over), lambda told: len(told) == 4 and is_best(grid, falls, told),
+                lambda told: shows_ready_plan(grid, over, told),
+            )
         self.assertGreater(falses, 2000)
 
     def test_values_of_other_kinds(self):

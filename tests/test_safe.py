@@ -3,8 +3,8 @@ from fractions import Fraction
 from random import Random
 
 from tests.sums import (
-    NO_FALLS, bent, bridge_names, expected, in_row, injections, is_cheapest, is_least, is_safe_plan, is_some_plan, loss_of,
-    ring_names, some_plan,
+    NO_FALLS, bridge_names, in_row, injections, is_cheapest, is_least, is_safe_plan, is_some_plan, loss_of, ring_names,
+    some_plan, try_bent,
 )
 from tests.support import (
     LOOP, NOT_OVER, ONE, PARALLEL, SINGLE, WRONG, fraction, fractions, lacking, ratio, ratios, some_full_grid,
@@ -252,10 +252,10 @@ class ShowsSafePlan(unittest.TestCase):
                 lots.append((grid,) + some_falls(random, grid))
         for grid, names, over in lots:
             falls = falls_of(names, over)
-            for value in bent(safe_plan(grid, names, over)):
-                right = expected(lambda told: is_cheapest(grid, falls, told), value)
-                falses += not right
-                self.assertIs(shows_safe_plan(grid, names, over, value), right, (grid, names, over, value))
+            falses += try_bent(
+                self, safe_plan(grid, names, over), lambda told: is_cheapest(grid, falls, told),
+                lambda told: shows_safe_plan(grid, names, over, told),
+            )
         self.assertGreater(falses, 2000)
 
     def test_values_of_other_kinds(self):
@@ -386,10 +386,10 @@ class ShowsMended(unittest.TestCase):
                 reach = tuple(random.choice([0, 1, 5]) for _ in grid[2])
                 lots.append((grid, some_plan(random, grid), random.choice(grid[1])[0], reach))
         for lot in lots:
-            for value in bent(mended(*lot)):
-                right = expected(lambda told: is_mended(*lot, told), value)
-                falses += not right
-                self.assertIs(shows_mended(*lot, value), right, (lot, value))
+            falses += try_bent(
+                self, mended(*lot), lambda told: is_mended(*lot, told),
+                lambda told: shows_mended(*lot, told),
+            )
         self.assertGreater(falses, 2000)
 
     def test_values_of_other_kinds(self):

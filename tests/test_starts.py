@@ -2,7 +2,7 @@ import unittest
 from itertools import product
 from random import Random
 
-from tests.sums import bent, cost_told, expected, is_cheapest_told
+from tests.sums import cost_told, is_cheapest_told, try_bent
 from tests.support import SINGLE, WRONG, ratios, some_full_grid, some_joined_grid
 from wattkeep.dispatch import cheapest
 from wattkeep.errors import BadGrid, BadStarts
@@ -153,10 +153,10 @@ class ShowsCheapestOn(unittest.TestCase):
             if len(grid[2]) < 3 and len(grid[0]) < 4:
                 lots.append((grid, tuple(random.choice([0, 5, 30]) for _ in grid[2])))
         for grid, starts in lots:
-            for value in bent(cheapest_on(grid, starts)):
-                right = expected(lambda told: is_right(grid, starts, told), value)
-                falses += not right
-                self.assertIs(shows_cheapest_on(grid, starts, value), right, (grid, starts, value))
+            falses += try_bent(
+                self, cheapest_on(grid, starts), lambda told: is_right(grid, starts, told),
+                lambda told: shows_cheapest_on(grid, starts, told),
+            )
         self.assertGreater(falses, 1000)
 
     def test_values_of_other_kinds(self):

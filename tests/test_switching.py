@@ -2,7 +2,7 @@ import unittest
 from itertools import combinations
 from random import Random
 
-from tests.sums import bent, cost_told, expected, is_cheapest_told
+from tests.sums import cost_told, is_cheapest_told, try_bent
 from tests.support import SINGLE, WRONG, fraction, lacking, ratio, ratios, some_full_grid, some_joined_grid
 from wattkeep.dispatch import cheapest
 from wattkeep.errors import BadGrid, BadNumber
@@ -133,10 +133,10 @@ class ShowsBestOff(unittest.TestCase):
         falses = 0
         lots = [(RING, 1), (SHUT, 2), (SINGLE, 2), (RING, 0)] + [(some_joined_grid(random, 3), 1) for _ in range(3)]
         for grid, most in lots:
-            for value in bent(best_off(grid, most)):
-                right = expected(lambda told: is_right(grid, most, told), value)
-                falses += not right
-                self.assertIs(shows_best_off(grid, most, value), right, (grid, most, value))
+            falses += try_bent(
+                self, best_off(grid, most), lambda told: is_right(grid, most, told),
+                lambda told: shows_best_off(grid, most, told),
+            )
         self.assertGreater(falses, 1000)
 
     def test_values_of_other_kinds(self):
