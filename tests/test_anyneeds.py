@@ -18,7 +18,7 @@ NARROW = (
 PULLED = (
     ("a", "b"), (("x", "a", "b", 1, 3), ("y", "a", "b", 2, 1)), (("p", "a", 9, 1),), (("m", "a", 5, 9), ("n", "b", 3, 20)),
 )
-SIX = (("a",), (), (("p", "a", 9, 1),), tuple(("n" + str(at), "a", 1, 1) for at in range(6)))
+SIX = (("a",), (), (("p", "a", 9, 1),), tuple(("n" + str(at), "a", 1, 0) for at in range(6)))
 
 
 def corners_of(grid, lows):

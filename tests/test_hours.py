@@ -8,7 +8,7 @@ from tests.support import (
 )
 from wattkeep.dispatch import cheapest, cost_of
 from wattkeep.errors import BadGrid, BadHours, BadStores
-from wattkeep.hours import hours_plan, hours_program, shows_hours_plan
+from wattkeep.hours import hours_plan, hours_program, parts_from, shows_hours_plan
 from wattkeep.programs import best_of
 
 # A cheap plant behind a line that bears 3, and a dear one with the load.
@@ -309,7 +309,7 @@ class WrongArguments(unittest.TestCase):
 
     def test_stores(self):
         for value in WRONG + (
-            (("s", "a", 9, 4),), (("s", "a", 9, 4, 2, 1),), (("s", "c", 9, 4, 2),), (("s", "x", 9, 4, 2),),
+            ((),), (("s",),), (("s", "a"),), (("s", "a", 9, 4),), (("s", "a", 9, 4, 2, 1),), (("s", "c", 9, 4, 2),), (("s", "x", 9, 4, 2),),
             (("S", "a", 9, 4, 2),), (("", "a", 9, 4, 2),), (("s" * 9, "a", 9, 4, 2),), ((1, "a", 9, 4, 2),),
             (("s", None, 9, 4, 2),), (("s", ["a"], 9, 4, 2),), (("s", "a", 1000, 4, 2),), (("s", "a", -1, 4, -1),),
             (("s", "a", 9, 1000, 2),), (("s", "a", 9, -1, 2),), (("s", "a", 9, 4, 10),), (("s", "a", 9, 4, -1),),
@@ -377,14 +377,17 @@ class ShowsHoursPlan(unittest.TestCase):
             (word, parts), (word, told), ("none", told), ("none", parts, told), ("best", parts, told), (word, told, parts),
             (word, parts[:1], told), (word, parts + parts[:1], told), (word, parts[::-1], told), (word, None, told),
             (word, list(parts), told), (word, parts, list(told)), (word, parts, None), (word, parts, told[1:]), none,
-            ("none", none), (told,), [word, parts, told],
+            ("none", none), (told,), [word, parts, told], (), (word, parts, told, told), (word, word, parts, told),
         ):
             self.assertIs(shows_hours_plan(*args, value), False, value)
             with self.assertRaises(BadGrid):
                 shows_hours_plan(SINGLE[:3], *args[1:], value)
         for value in (none, ("none", none[1])):
             self.assertIs(shows_hours_plan(PAIR, ((99,),), (), (1, 2), value), True)
-        for value in (("plan", none[1]), ("plan", (), none[1]), ("none", none[1], none[1]), none[1]):
+        paper = none[1][1]
+        # The paper of no plan is no point, even if it is cut as one.
+        cut = parts_from(PAIR, ((99,),), (), paper)
+        for value in (("plan", none[1]), ("plan", (), none[1]), ("none", none[1], none[1]), none[1], ("plan", cut, none[1])):
             self.assertIs(shows_hours_plan(PAIR, ((99,),), (), (1, 2), value), False)
 
 
