@@ -237,6 +237,56 @@ def is_told(program, told):
     return word == "best" and len(last) == len(rows) and all(part >= 0 for part in sums) and same
 
 
+def taken_of(grid, reading):
+    """Return what a reading takes of the angle of each node."""
+    what, name = reading[:2]
+    found = {node: Fraction(0) for node in grid[0]}
+    if what == "angle":
+        found[name] += 1
+    for line in grid[1]:
+        way = (line[0] == name) if what == "flow" else (line[1] == name) - (line[2] == name) if what == "inject" else 0
+        found[line[1]] += Fraction(way, line[3])
+        found[line[2]] -= Fraction(way, line[3])
+    return found
+
+
+def free_nodes(grid):
+    """Return the nodes whose angles are not fixed."""
+    firsts = [island[0] for island in islands_of(grid)]
+    return [node for node in grid[0] if node not in firsts]
+
+
+def table_of(grid, meters):
+    """Return for each reading the row of what it takes of the angles that are not fixed."""
+    free = free_nodes(grid)
+    return [[taken_of(grid, reading)[node] for node in free] for reading in meters]
+
+
+def missed_by(grid, meters, angles):
+    """Return what each reading tells more than angles."""
+    known = dict(zip(grid[0], angles))
+    return [
+        fraction(reading[2]) - sum(part * known[node] for node, part in taken_of(grid, reading).items())
+        for reading in meters
+    ]
+
+
+def some_meters(random, grid, wrong=0, most=8):
+    """Return readings of a grid that fit some angles but for so many of them."""
+    firsts = [island[0] for island in islands_of(grid)]
+    angles = [Fraction(0) if node in firsts else Fraction(random.randint(-9, 9), random.randint(1, 3)) for node in grid[0]]
+    items = [("flow", line[0]) for line in grid[1]]
+    items += [(what, node) for node in grid[0] for what in ("inject", "angle")]
+    meters = []
+    for what, name in [random.choice(items) for _ in range(random.randint(0, most))]:
+        own = -missed_by(grid, [(what, name, (0, 1))], angles)[0]
+        meters.append((what, name, ratios(own)[0]))
+    for at in random.sample(range(len(meters)), min(wrong, len(meters))):
+        what, name, read = meters[at]
+        meters[at] = (what, name, ratios(fraction(read) + random.choice([-3, -1, Fraction(1, 2), 2]))[0])
+    return tuple(meters)
+
+
 def in_row(told):
     """Return an answer that ends in one paper as one that ends in a row of papers."""
     return told[:-1] + (told[-1:],)

@@ -68,6 +68,17 @@ def some_ratio(random, most=9, low=4):
     return ratio(random.randint(-most, most), random.randint(1, low))
 
 
+def rank_of(rows):
+    """Return the rank of rows of Fractions, which may be void."""
+    left, count = [list(row) for row in rows], 0
+    for col in range(len(left[0]) if left else 0):
+        pivot = next((row for row in left if row[col]), None)
+        if pivot is not None:
+            count += 1
+            left = [[part - other * row[col] / pivot[col] for part, other in zip(row, pivot)] for row in left if row is not pivot]
+    return count
+
+
 def islands_of(grid):
     """Return the islands by searching from each node, another way than the program's."""
     found = []

@@ -5,12 +5,12 @@ from copy import deepcopy
 
 from tests.support import TRIANGLE, WRONG, ratios
 from wattkeep import (
-    anyneeds, cascades, dispatch, falls, flows, grids, hours, offers, programs, ready, safe, shedding, starts, switching,
-    systems, trees,
+    anyneeds, cascades, curves, dispatch, falls, fitting, flows, grids, hours, market, meters, offers, programs, ready, safe,
+    shedding, starts, switching, systems, trees,
 )
 from wattkeep.errors import (
-    BadGrid, BadHours, BadInjections, BadName, BadNumber, BadOffers, BadPlan, BadProgram, BadStarts, BadStores, BadTable,
-    Bridge,
+    BadGrid, BadHours, BadInjections, BadMeters, BadName, BadNumber, BadOffers, BadPlan, BadProgram, BadStarts, BadStores,
+    BadTable, Bridge,
 )
 
 TABLE = (ratios(1, 2), ratios(3, 5))
@@ -20,6 +20,9 @@ FULL = (TRIANGLE[0], TRIANGLE[1], (("p", "a", 9, 1),), (("n", "b", 5, 50),))
 PLAN = (ratios(5), ratios(0))
 OVER = (3, 2)
 OFFERS = ((("w", "a", "b", 2, 3), 20),)
+CURVE = (ratios(0, 9, 0, 1),)
+METERS = (("flow", "x", (3, 1)),)
+PAPER = (ratios(1, 1, 1), ratios(0, 0, 0))
 HOURS = (((5,), (3,)), (("s", "a", 9, 4, 2),), (7,))
 
 # Each function with arguments that are right and, for each, the error that is named with it.
@@ -82,6 +85,17 @@ CALLS = (
     (anyneeds.shows_surely, (FULL, (2,), (True, ())), (BadGrid, BadHours, None)),
     (anyneeds.worst, (FULL, (2,)), (BadGrid, BadHours)),
     (anyneeds.shows_worst, (FULL, (2,), ((0, 1), (2,), ())), (BadGrid, BadHours, None)),
+    (curves.cost_curve, (FULL, "n", 9), (BadGrid, BadName, BadNumber)),
+    (curves.cost_at, (CURVE, (2, 1)), (BadNumber, BadNumber)),
+    (meters.state, (FULL, METERS), (BadGrid, BadMeters)),
+    (meters.told_flows, (FULL, METERS), (BadGrid, BadMeters)),
+    (meters.needed, (FULL, METERS), (BadGrid, BadMeters)),
+    (meters.fewest_wrong, (FULL, METERS), (BadGrid, BadMeters)),
+    (fitting.fitted, (FULL, METERS, (3,)), (BadGrid, BadMeters, BadMeters)),
+    (market.settlement, (FULL, PLAN, PAPER), (BadGrid, BadPlan, BadPlan)),
+    (market.gains, (FULL, PLAN, PAPER), (BadGrid, BadPlan, BadPlan)),
+    (market.rights_worth, (FULL, PAPER, INJECT), (BadGrid, BadPlan, BadInjections)),
+    (market.are_borne, (FULL, INJECT), (BadGrid, BadInjections)),
     (hours.hours_plan, (FULL, *HOURS), (BadGrid, BadHours, BadStores, BadHours)),
     (hours.shows_hours_plan, (FULL, *HOURS, ("none", ())), (BadGrid, BadHours, BadStores, BadHours, None)),
 )
@@ -89,7 +103,7 @@ CALLS = (
 # Integers among WRONG that are right where an integer stands.
 RIGHT_INTEGERS = {
     (switching.best_off, 1): (0,), (switching.shows_best_off, 1): (0,), (offers.best_build, 2): (0, 7),
-    (offers.shows_best_build, 2): (0, 7),
+    (offers.shows_best_build, 2): (0, 7), (curves.cost_curve, 2): (0, 7),
 }
 
 

@@ -4,11 +4,14 @@ import unittest
 
 from wattkeep.anyneeds import worst
 from wattkeep.cascades import cascade
+from wattkeep.curves import cost_curve
 from wattkeep.dispatch import cheapest
 from wattkeep.errors import BadGrid, BadProgram, BadTable
 from wattkeep.falls import behind_fall
 from wattkeep.flows import flows, reactance
 from wattkeep.grids import bridges, islands
+from wattkeep.market import settlement
+from wattkeep.meters import state
 from wattkeep.programs import best
 from wattkeep.ready import price_of_ready
 from wattkeep.shedding import least_shed, lost
@@ -87,6 +90,23 @@ class Examples(unittest.TestCase):
     def test_anyneeds(self):
         grid = (("a",), (), (("p", "a", 4, 1),), (("n", "a", 6, 5),))
         self.assertEqual(worst(grid, (1,))[:2], ((10, 1), (6,)))
+
+    def test_curves(self):
+        grid = (("a",), (), (("p", "a", 4, 1), ("q", "a", 9, 3)), (("n", "a", 6, 5),))
+        self.assertEqual(
+            cost_curve(grid, "n", 10), (((0, 1), (4, 1), (0, 1), (1, 1)), ((4, 1), (10, 1), (4, 1), (3, 1)))
+        )
+
+    def test_meters(self):
+        grid = (("a", "b"), (("x", "a", "b", 2, 9),), (), ())
+        self.assertEqual(state(grid, (("flow", "x", (3, 1)),)), ("one", ((0, 1), (-6, 1))))
+
+    def test_market(self):
+        grid = (("a", "b"), (("x", "a", "b", 1, 3),), (("p", "a", 9, 1), ("q", "b", 9, 4)), (("n", "b", 5, 50),))
+        self.assertEqual(
+            settlement(grid, (((3, 1), (2, 1)), ((0, 1),)), (((1, 1), (4, 1)), ((3, 1),))),
+            (((20, 1),), ((3, 1), (8, 1)), (9, 1)),
+        )
 
 
 if __name__ == "__main__":

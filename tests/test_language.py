@@ -50,6 +50,10 @@ LISTED = {
     "switching": "best_off shows_best_off hurtful",
     "offers": "best_build shows_best_build",
     "anyneeds": "surely shows_surely worst shows_worst",
+    "curves": "cost_curve cost_at",
+    "meters": "state told_flows needed fewest_wrong",
+    "fitting": "fitted",
+    "market": "settlement gains rights_worth are_borne",
 }
 
 

@@ -82,6 +82,14 @@ def node_place(grid, name):
     return grid[0].index(name)
 
 
+def load_place(grid, name):
+    """Return the place of a load by its name (BadName)."""
+    names = [load[0] for load in grid[3]]
+    if name not in names:
+        raise BadName("no name of a load")
+    return names.index(name)
+
+
 def check_lines(grid, names):
     """Raise BadName unless names is a tuple of names of lines."""
     known = [line[0] for line in grid[1]]

@@ -68,17 +68,29 @@ def rank(rows):
     return len(columns)
 
 
+def worked(rows, rights, width):
+    """Eliminate the columns of rows that have so many, each with its right side and its unit row behind it."""
+    return eliminated(beside_units([[*row, right] for row, right in zip(rows, rights)]), width)
+
+
+def refuted(left, width):
+    """Return a sum of the rows that is 0 in each column and not on the right, None if there is none."""
+    for row in left:
+        if row[width] != 0:
+            return tuple([(part, 1) for part in row[width + 1:]])
+    return None
+
+
 def solved(rows, rights):
     """Return ("one", x), ("many", x), or ("none", y) with a sum of the rows that shows it."""
     check_table(rows)
     if not are_ratios(rights, len(rows)):
         raise BadTable("right sides that do not fit the rows")
     width = len(rows[0])
-    full = beside_units([[*row, right] for row, right in zip(rows, rights)])
-    done, left, columns = eliminated(full, width)
-    for row in left:
-        if row[width] != 0:
-            return ("none", tuple([(part, 1) for part in row[width + 1:]]))
+    done, left, columns = worked(rows, rights, width)
+    against = refuted(left, width)
+    if against is not None:
+        return ("none", against)
     found = [ZERO] * width
     for row, col in zip(done, columns):
         found[col] = ratio(row[width], row[col])
