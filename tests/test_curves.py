@@ -4,7 +4,7 @@ from random import Random
 
 from tests.sums import cost_told
 from tests.support import SINGLE, WRONG, fraction, fractions, ratio, ratios, some_full_grid, some_joined_grid
-from wattkeep.curves import cost_at, cost_curve
+from wattkeep.curves import cost_at, cost_curve, pieces_of
 from wattkeep.dispatch import cheapest
 from wattkeep.errors import BadGrid, BadName, BadNumber
 
@@ -116,6 +116,12 @@ class CostCurve(unittest.TestCase):
         for need in (0, 1, 500, 999):
             self.assertEqual(cost_curve(needing(STEPS, "n", need), "n", 30), cost_curve(STEPS, "n", 30))
         self.assertNotEqual(cost_curve(needing(FULL_LINE, "m", 5), "n", 30), cost_curve(FULL_LINE, "n", 30))
+
+    def test_spots_of_one_slope_are_ends_of_one_piece(self):
+        spots = [ratios(1, 2), ratios(2, 4), ratios(Fraction(5, 2), 5), ratios(4, 9), ratios(5, 13)]
+        right = (ratios(1, Fraction(5, 2), 2, 2), ratios(Fraction(5, 2), 4, 5, Fraction(8, 3)), ratios(4, 5, 9, 4))
+        self.assertEqual(pieces_of(spots), right)
+        self.assertEqual(pieces_of(spots[:3]), right[:1])
 
     def test_against_cheapest(self):
         random = Random(151)
