@@ -27,6 +27,11 @@ LOOP = (
     (("x", "a", "b", 1, 9), ("y", "b", "c", 2, 9), ("z", "a", "c", 1, 6), ("w", "c", "d", 3, 7)),
     (("p", "a", 20, 1), ("q", "c", 20, 9), ("r", "b", 4, 3)), (("n", "c", 6, 99), ("m", "d", 5, 40)),
 )
+# A ring of which one line is full, so that its prices, rents and pulls are no integers.
+RING = (
+    ("a", "b", "c"), (("x", "a", "b", 1, 9), ("y", "c", "b", 2, 9), ("z", "a", "c", 1, 2)),
+    (("p", "a", 9, 1), ("q", "c", 9, 6)), (("n", "c", 5, 50), ("m", "b", 1, 9), ("o", "c", 0, 3)),
+)
 # Values that are no ratio from 1 to 9.
 NOT_OVER = (
     (1, 2), (0, 1), (-1, 1), (10, 1), (91, 10), (9001, 1000), (999, 1000), (2, 2), (4, 2), (True, 1), (1, True), (3, -1),
@@ -62,6 +67,11 @@ def ratio(value, low=1):
 
 def ratios(*values):
     return tuple(ratio(value) for value in values)
+
+
+def written(value):
+    """Return a Fraction as an integer or top/low."""
+    return str(value.numerator) if value.denominator == 1 else f"{value.numerator}/{value.denominator}"
 
 
 def some_ratio(random, most=9, low=4):

@@ -5,13 +5,15 @@ from copy import deepcopy
 
 from tests.support import TRIANGLE, WRONG, ratios
 from wattkeep import (
-    anyneeds, cascades, curves, dispatch, falls, fitting, flows, grids, hours, market, meters, offers, programs, ready, safe,
-    shedding, starts, switching, systems, trees,
+    anyneeds, cascades, curves, dispatch, drills, falls, fitting, flows, grids, gridtexts, hours, market, meters, offers,
+    programs, ready, safe, sheets, shedding, starts, switching, systems, trees,
 )
+from wattkeep.desk import Desk
 from wattkeep.errors import (
-    BadGrid, BadHours, BadInjections, BadMeters, BadName, BadNumber, BadOffers, BadPlan, BadProgram, BadStarts, BadStores,
-    BadTable, Bridge,
+    BadGrid, BadHours, BadInjections, BadLine, BadMeters, BadName, BadNumber, BadOffers, BadPlan, BadProgram, BadStarts,
+    BadStores, BadTable, Bridge,
 )
+from wattkeep.room import Room
 
 TABLE = (ratios(1, 2), ratios(3, 5))
 PROGRAM = (ratios(-1, 2), (ratios(2, 1),), ratios(3))
@@ -23,7 +25,42 @@ OFFERS = ((("w", "a", "b", 2, 3), 20),)
 CURVE = (ratios(0, 9, 0, 1),)
 METERS = (("flow", "x", (3, 1)),)
 PAPER = (ratios(1, 1, 1), ratios(0, 0, 0))
+TEXT = "node a\nplant p a 9 1"
+SHEET = "made p is 5\nprice a is 1"
 HOURS = (((5,), (3,)), (("s", "a", 9, 4, 2),), (7,))
+
+
+
+def log_of(grid):
+    return Room(grid).log
+
+
+def fall_in(grid, name):
+    room = Room(grid)
+    room.fall(name)
+    return room.log
+
+
+def back_in(grid, name):
+    room = Room(grid)
+    room.fall("x")
+    room.back(name)
+    return room.log
+
+
+def need_in(grid, name, amount):
+    room = Room(grid)
+    room.need(name, amount)
+    return room.log
+
+
+def if_falls_in(grid, name):
+    return Room(grid).if_falls(name)
+
+
+def read_at(text):
+    return Desk().read(text)
+
 
 # Each function with arguments that are right and, for each, the error that is named with it.
 CALLS = (
@@ -96,6 +133,19 @@ CALLS = (
     (market.gains, (FULL, PLAN, PAPER), (BadGrid, BadPlan, BadPlan)),
     (market.rights_worth, (FULL, PAPER, INJECT), (BadGrid, BadPlan, BadInjections)),
     (market.are_borne, (FULL, INJECT), (BadGrid, BadInjections)),
+    (drills.drills, (FULL, PLAN, 1), (BadGrid, BadPlan, BadNumber)),
+    (drills.weakest, (FULL, PLAN, 1), (BadGrid, BadPlan, BadNumber)),
+    (drills.falls_with, (FULL, PLAN, "n", 1), (BadGrid, BadPlan, BadName, BadNumber)),
+    (gridtexts.write_grid, (FULL,), (BadGrid,)),
+    (gridtexts.read_grid, (TEXT,), (BadLine,)),
+    (sheets.sheet_of, (FULL, PLAN, PAPER), (BadGrid, BadPlan, BadPlan)),
+    (sheets.judge_sheet, (FULL, SHEET), (BadGrid, BadLine)),
+    (log_of, (FULL,), (BadGrid,)),
+    (fall_in, (FULL, "x"), (BadGrid, BadName)),
+    (back_in, (FULL, "x"), (BadGrid, BadName)),
+    (need_in, (FULL, "n", 9), (BadGrid, BadName, BadNumber)),
+    (if_falls_in, (FULL, "x"), (BadGrid, BadName)),
+    (read_at, (TEXT,), (BadLine,)),
     (hours.hours_plan, (FULL, *HOURS), (BadGrid, BadHours, BadStores, BadHours)),
     (hours.shows_hours_plan, (FULL, *HOURS, ("none", ())), (BadGrid, BadHours, BadStores, BadHours, None)),
 )
@@ -103,7 +153,7 @@ CALLS = (
 # Integers among WRONG that are right where an integer stands.
 RIGHT_INTEGERS = {
     (switching.best_off, 1): (0,), (switching.shows_best_off, 1): (0,), (offers.best_build, 2): (0, 7),
-    (offers.shows_best_build, 2): (0, 7), (curves.cost_curve, 2): (0, 7),
+    (offers.shows_best_build, 2): (0, 7), (curves.cost_curve, 2): (0, 7), (need_in, 2): (0, 7),
 }
 
 
@@ -182,6 +232,14 @@ class Arguments(unittest.TestCase):
         found = trees.trees(TRIANGLE)
         found.append("changed")
         self.assertEqual(len(trees.trees(TRIANGLE)), 3)
+        room = Room(FULL)
+        room.fall("x")
+        room.log.append("changed")
+        self.assertEqual(room.log, [("fall", "x")])
+
+    def test_what_is_said_may_be_anything(self):
+        for value in WRONG:
+            self.assertEqual(Desk().say(value), "what")
 
     def test_is_grid_of_any_value(self):
         for value in WRONG:

@@ -5,15 +5,18 @@ import unittest
 from wattkeep.anyneeds import worst
 from wattkeep.cascades import cascade
 from wattkeep.curves import cost_curve
+from wattkeep.desk import Desk
 from wattkeep.dispatch import cheapest
-from wattkeep.errors import BadGrid, BadProgram, BadTable
+from wattkeep.errors import BadGrid, BadLine, BadProgram, BadTable
 from wattkeep.falls import behind_fall
 from wattkeep.flows import flows, reactance
 from wattkeep.grids import bridges, islands
+from wattkeep.gridtexts import read_grid
 from wattkeep.market import settlement
 from wattkeep.meters import state
 from wattkeep.programs import best
 from wattkeep.ready import price_of_ready
+from wattkeep.room import Room
 from wattkeep.shedding import least_shed, lost
 from wattkeep.starts import cheapest_on
 from wattkeep.switching import hurtful
@@ -106,6 +109,26 @@ class Examples(unittest.TestCase):
         self.assertEqual(
             settlement(grid, (((3, 1), (2, 1)), ((0, 1),)), (((1, 1), (4, 1)), ((3, 1),))),
             (((20, 1),), ((3, 1), (8, 1)), (9, 1)),
+        )
+
+    def test_gridtexts(self):
+        self.assertEqual(read_grid("node a\nload n a 5 50"), (("a",), (), (), (("n", "a", 5, 50),)))
+        with self.assertRaises(BadLine) as raised:
+            read_grid("knot a")
+        self.assertEqual((raised.exception.line, raised.exception.word), (1, 1))
+
+    def test_room(self):
+        lines = (("x", "a", "b", 1, 3), ("y", "a", "b", 1, 3))
+        room = Room((("a", "b"), lines, (("p", "a", 9, 1),), (("n", "b", 5, 50),)))
+        before = room.lost
+        room.fall("y")
+        self.assertEqual([before, room.lost, room.trips(), room.log], [(0, 1), (100, 1), (), [("fall", "y")]])
+
+    def test_desk(self):
+        desk = Desk()
+        desk.read("node a\nplant p a 9 2\nload n a 5 50")
+        self.assertEqual(
+            [desk.say("plan"), desk.say("need n 12"), desk.say("undo")], ["p 5 | -", "lost 150 cost 18", "lost 0 cost 10"]
         )
 
 

@@ -25,7 +25,7 @@ NODES = (
     ast.Return, ast.Raise, ast.If, ast.For, ast.While, ast.Break, ast.Continue, ast.Pass, ast.Expr, ast.Call, ast.Name,
     ast.Attribute, ast.Constant, ast.Tuple, ast.List, ast.Dict, ast.ListComp, ast.DictComp, ast.comprehension, ast.Subscript,
     ast.Slice, ast.Starred, ast.BinOp, ast.UnaryOp, ast.BoolOp, ast.Compare, ast.IfExp, ast.JoinedStr, ast.FormattedValue,
-    ast.keyword, ast.expr_context, ast.boolop, ast.operator, ast.unaryop, ast.cmpop,
+    ast.keyword, ast.expr_context, ast.boolop, ast.operator, ast.unaryop, ast.cmpop, ast.Try, ast.ExceptHandler,
 )
 NOT_NAMES = set(
     "register mro elements open input law version_info exit compile copyright credits license help type vars dir eval exec "
@@ -54,7 +54,17 @@ LISTED = {
     "meters": "state told_flows needed fewest_wrong",
     "fitting": "fitted",
     "market": "settlement gains rights_worth are_borne",
+    "drills": "drills weakest falls_with",
+    "gridtexts": "write_grid read_grid",
+    "sheets": "sheet_of judge_sheet",
+    "room": "Room",
+    "desk": "Desk",
 }
+METHODS_LISTED = {
+    "Room": "fall back need undo ready trips if_falls grid down plan papers lost cost log",
+    "Desk": "read say",
+}
+PROPERTIES = "grid down plan papers lost cost log".split()
 
 
 def parsed():
@@ -136,8 +146,27 @@ class Language(unittest.TestCase):
                         self.assertNotIn("%", node.value)
                 if isinstance(node, ast.Raise):
                     self.assertIsInstance(node.exc, ast.Call)
-                if isinstance(node, ast.FunctionDef):
-                    self.assertEqual(node.decorator_list, [])
+                if isinstance(node, ast.Try):
+                    # Own errors alone, by their names.
+                    own = {handler.type.id for handler in node.handlers}
+                    self.assertLessEqual(own, set(LISTED["errors"].split()))
+                    self.assertEqual([handler.name for handler in node.handlers], [None] * len(node.handlers))
+                    self.assertEqual((node.orelse, node.finalbody), ([], []))
+
+    def test_properties(self):
+        # L4, L5: a property only tells what its object holds.
+        for name, tree in parsed().items():
+            found = {}
+            for node in ast.walk(tree):
+                if isinstance(node, ast.FunctionDef) and node.decorator_list:
+                    self.assertEqual([ast.unparse(part) for part in node.decorator_list], ["property"])
+                    found[node.name] = node
+            self.assertEqual(sorted(found), sorted(PROPERTIES) if name == "room" else [])
+            for node in found.values():
+                self.assertEqual([ast.unparse(part) for part in node.args.args], ["self"])
+                self.assertIsInstance(node.body[0].value, ast.Constant)
+                self.assertIsInstance(node.body[1], ast.Return)
+                self.assertEqual(len(node.body), 2)
 
     def test_names(self):
         # L8, L12, L15, L17, L25
@@ -156,7 +185,7 @@ class Language(unittest.TestCase):
             self.assertEqual(len(top), len(set(top)), name)
             for node in ast.walk(tree):
                 if isinstance(node, ast.Name) and node.id in dir(builtins):
-                    self.assertIn(node.id, BUILTINS, name)
+                    self.assertIn(node.id, BUILTINS | {"property"} if name == "room" else BUILTINS, name)
                 if isinstance(node, ast.Call) and isinstance(node.func, ast.Attribute):
                     self.assertTrue(node.func.attr in METHODS | methods | {"__init__"}, (name, node.func.attr))
 
@@ -177,6 +206,10 @@ class Language(unittest.TestCase):
         for module, words in LISTED.items():
             defined = {node.name for node in trees[module].body if isinstance(node, (ast.FunctionDef, ast.ClassDef))}
             self.assertLessEqual(set(words.split()), defined)
+            for owner in trees[module].body:
+                if isinstance(owner, ast.ClassDef) and owner.name in METHODS_LISTED:
+                    methods = {node.name for node in owner.body if isinstance(node, ast.FunctionDef)}
+                    self.assertLessEqual(set(METHODS_LISTED[owner.name].split()), methods)
 
 
 if __name__ == "__main__":

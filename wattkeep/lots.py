@@ -1,7 +1,18 @@
 """Lots: what is told of many grids, and which of them comes first with the least."""
 
+from itertools import combinations
+
 from wattkeep.plans import plan_cost, plan_loss
 from wattkeep.ratios import is_above
+
+
+def lots_of_lines(grid, most):
+    """Return the lots of at most so many names of lines: none first, then one, then two, in the grid's order."""
+    names = [line[0] for line in grid[1]]
+    lots = []
+    for count in range(most + 1):
+        lots = lots + list(combinations(names, count))
+    return lots
 
 
 def are_told(shows, grids, tolds):

@@ -1,11 +1,9 @@
 """Switching: lines without which the cheapest plan costs less."""
 
-from itertools import combinations
-
 from wattkeep.dispatch import cheapest, shows_cheapest
 from wattkeep.errors import BadNumber
 from wattkeep.grids import check_grid, without_lines
-from wattkeep.lots import are_told, least_place, told_costs
+from wattkeep.lots import are_told, least_place, lots_of_lines, told_costs
 from wattkeep.ratios import is_above, is_between
 
 MOST_OFF = 2
@@ -15,15 +13,6 @@ def check_most(most):
     """Raise BadNumber unless a value is 0, 1 or 2."""
     if not is_between(most, 0, MOST_OFF):
         raise BadNumber("not 0, 1 or 2")
-
-
-def lots_of_lines(grid, most):
-    """Return the lots of at most so many lines' names: none first, then one, then two, in the grid's order."""
-    names = [line[0] for line in grid[1]]
-    lots = []
-    for count in range(most + 1):
-        lots = lots + list(combinations(names, count))
-    return lots
 
 
 def first_off(grids, lots, tolds):
